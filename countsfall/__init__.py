@@ -1,0 +1,1 @@
+"""Countsfall: tables of hidden numbers, asked by ranks and counts."""

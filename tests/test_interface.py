@@ -1,0 +1,138 @@
+"""Tests that the interface stands in its files, and of what [3] says of all functions."""
+
+import ast
+import copy
+import importlib
+import inspect
+import unittest
+
+MODULES = {
+    "forms": "is_integer(thing) is_name(thing) is_house(thing) is_table(house,thing) is_lot(house,thing) "
+             "is_formula(house,thing) is_fact(house,thing) is_answer(house,thing) is_case(thing) is_counts(house,thing)",
+    "houses": "names_of(house) sort_of(house,name) cells_of(house) is_open(house) is_firm(house) part_of(house,lot) "
+              "renamed_house(house,names) renamed_formula(formula,names) renamed_case(case,names)",
+    "tables": "value_of(house,table,formula) count_at_least(house,table,lot,number) sizes_of(house,table) all_numbers(table) "
+              "keeps(house,table,facts) is_right(house,table,answer) fits(case,table) relabelled(table,labels)",
+    "texts": "show_house(house) show_table(table) show_formula(formula) show_case(case)",
+    "reader": "read_house(text) read_formula(house,text) read_case(text) read_table(house,text)",
+    "falls": "counts_at(house,table,number) fall_of(house,table) is_fall(house,thing) table_of(house,fall)",
+    "kinds": "kind_of(house,table) is_kind(house,thing) is_coarser(house,one,other) with_numbers(house,kind,numbers) "
+             "value_place(house,kind,formula) coarser_kinds(house,kind) all_kinds(house) kinds_many(house) "
+             "tables_many(house,low,high)",
+    "ways": "holds(house,formula,counts) are_ways(house,thing) holds_by(ways,counts) ways_of(house,formula) "
+            "ways_formula(house,ways)",
+    "likeness": "are_alike(house,one,other) is_never_above(house,one,other) parted_by(house,one,other) "
+                "above_by(house,one,other) alike_lots(house,formulas) never_above(house,formulas)",
+    "shapes": "matters(house,formula) settled_formula(house,formula) turned_formula(house,formula) "
+              "can_be_nothing(house,formula) can_be_something(house,formula) turned_table(table)",
+    "levels": "rungs_of(answers) level_of(rungs,number) depth_of(formulas,answers) caps_of(house,depth)",
+    "ladders": "is_let(case,level,counts) ladder_of(case)",
+}
+
+HOUSE = (("a", 1, 2), ("b", 0, 1))
+TABLE = {"b": (4,), "a": (2, 4)}
+NAMES = {"b": "y", "a": "z"}
+FORMULA = ("kth", 1, (("rank", ("a", "b"), 2), ("rank", ("b",), 1)))
+ANSWERS = (("is", FORMULA, 4), ("count", ("a",), 3, 1))
+CASE = (HOUSE, ((("rank", ("a",), 2), FORMULA),), ANSWERS)
+KIND = ((2, 1), (1, 1))
+VALUES = {
+    "house": HOUSE, "table": TABLE, "names": NAMES, "formula": FORMULA, "answers": ANSWERS, "case": CASE, "kind": KIND,
+    "name": "b", "lot": ("a", "b"), "number": 3, "facts": CASE[1], "answer": ANSWERS[1], "labels": {4: 9, 2: 1, 3: 5},
+    "text": "", "fall": ((2, (2, 1)), (4, (1, 1))), "numbers": (0, 5), "low": 0, "high": 3, "counts": (1, 1),
+    "ways": ((0, 1), (2, 0)), "formulas": (FORMULA, FORMULA[2][0]), "rungs": [2, 3, 4], "depth": 2, "level": 1,
+    "thing": {"a": [(1,)], "b": {}}, "one": FORMULA, "other": FORMULA[2][0],
+}
+SPECIAL = {
+    "is_coarser": (HOUSE, KIND[:1], KIND), "read_house": ("sort a 1 1",), "read_table": (HOUSE, "rows b 4\nrows a 2 4"),
+    "read_formula": (HOUSE, "( rank 1 a )"), "read_case": ("sort a 1 1",), "kinds_many": ((("a", 0, 2),),),
+    "turned_formula": ((("a", 2, 2), ("b", 1, 1)), FORMULA),
+}
+
+
+def functions():
+    """Return (module, function, its parameters) for the whole interface so far."""
+    found = []
+    for name, listed in MODULES.items():
+        module = importlib.import_module("countsfall." + name)
+        for entry in listed.split():
+            told, _, parameters = entry[:-1].partition("(")
+            found.append((module, getattr(module, told), parameters.split(",")))
+    return found
+
+
+def arguments_of(function, parameters):
+    """Return arguments with which a function can be called, made anew."""
+    return copy.deepcopy(SPECIAL.get(function.__name__) or tuple(VALUES[name] for name in parameters))
+
+
+def ordered(thing):
+    """Return a value with the items of its dicts as lists, so that their order counts too."""
+    if isinstance(thing, dict):
+        return ["dict"] + [(key, ordered(thing[key])) for key in thing]
+    if isinstance(thing, (list, tuple)):
+        return [type(thing).__name__] + [ordered(part) for part in thing]
+    return [type(thing).__name__, thing]
+
+
+def spoil(thing):
+    """Change all lists and dicts in a value."""
+    for part in thing.values() if isinstance(thing, dict) else thing if isinstance(thing, (list, tuple)) else ():
+        spoil(part)
+    if isinstance(thing, list):
+        thing.append("spoilt")
+    if isinstance(thing, dict):
+        thing["spoilt"] = ()
+
+
+class InterfaceTest(unittest.TestCase):
+
+    def test_names_and_parameters(self):
+        for module, function, parameters in functions():
+            self.assertEqual(list(inspect.signature(function).parameters), parameters, function.__name__)
+            self.assertEqual(function.__module__, module.__name__)
+
+    def test_functions_are_defined_in_their_files(self):
+        for module, function, _ in functions():
+            with open(module.__file__, encoding="ascii") as source:
+                rows = ast.parse(source.read()).body
+            defined = [row.name for row in rows if isinstance(row, ast.FunctionDef)]
+            self.assertEqual(defined.count(function.__name__), 1, function.__name__)
+
+
+class CallsTest(unittest.TestCase):
+
+    def test_arguments_stay_as_they_are(self):
+        for _, function, parameters in functions():
+            arguments = arguments_of(function, parameters)
+            function(*arguments)
+            self.assertEqual(ordered(arguments), ordered(arguments_of(function, parameters)), function.__name__)
+
+    def test_the_same_call_again_gives_an_equal_result(self):
+        for _, function, parameters in functions():
+            first = function(*arguments_of(function, parameters))
+            before = ordered(copy.deepcopy(first))
+            self.assertEqual(ordered(function(*arguments_of(function, parameters))), before, function.__name__)
+            spoil(first)
+            self.assertEqual(ordered(function(*arguments_of(function, parameters))), before, function.__name__)
+
+    def test_what_is_returned_does_not_hang_on_the_arguments(self):
+        for _, function, parameters in functions():
+            arguments = arguments_of(function, parameters)
+            expected = ordered(function(*arguments_of(function, parameters)))
+            found = function(*arguments)
+            spoil(arguments)
+            self.assertEqual(ordered(found), expected, function.__name__)
+
+    def test_truths_and_keys(self):
+        truths = ("is_", "are_", "can_", "holds", "keeps", "fits")
+        for _, function, parameters in functions():
+            found = function(*arguments_of(function, parameters))
+            if function.__name__.startswith(truths):
+                self.assertIsInstance(found, bool, function.__name__)
+            if isinstance(found, dict):
+                self.assertEqual(list(found), sorted(found), function.__name__)
+
+
+if __name__ == "__main__":
+    unittest.main()
