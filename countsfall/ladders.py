@@ -1,6 +1,6 @@
 """What a case asks of the counts at each level."""
 
-from countsfall.counts import all_counts, rows_of_lot
+from countsfall.counts import Grid, rows_of_lot
 from countsfall.levels import checked_caps, level_of, rungs_of
 from countsfall.ways import holds
 
@@ -47,12 +47,23 @@ def levels_by_count(house, answer, rungs, counts, levels):
 
 def ladder_of(case):
     """Return the list that has for each level the ascending list of the counts within the caps that are let."""
-    house, facts, answers = case
-    formulas = tuple([formula for fact in facts for formula in fact])
-    caps = checked_caps(house, formulas, answers)
-    rungs = rungs_of(answers)
-    ladder = [[] for _ in range(len(rungs) + 1)]
-    for counts in all_counts(caps):
+    house, _, answers = case
+    grid = Grid(house, checked_caps(house, fact_formulas(case), answers))
+    return [grid.listed(level) for level in ladder_sets(grid, case, rungs_of(answers))]
+
+
+def fact_formulas(case):
+    """Return the tuple of the formulas of the facts of a case."""
+    return tuple([formula for fact in case[1] for formula in fact])
+
+
+def ladder_sets(grid, case, rungs):
+    """Return the list that has for each level the set of the counts of a grid that are let.
+
+    Among the rungs, by which the levels are, are those of the case; there may be further ones.
+    """
+    levels = [0] * (len(rungs) + 1)
+    for index, counts in enumerate(grid.counts):
         for level in let_levels(case, rungs, counts):
-            ladder[level].append(counts)
-    return ladder
+            levels[level] = levels[level] | (1 << index)
+    return levels

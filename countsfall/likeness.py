@@ -1,14 +1,9 @@
 """Formulas held against each other in all tables of a house."""
 
-from countsfall.counts import all_counts
+from countsfall.counts import all_counts, least_sizes
 from countsfall.falls import table_of
 from countsfall.levels import checked_caps
 from countsfall.ways import holds, ways_within
-
-
-def least_sizes(house, counts):
-    """Return the least sizes that the house lets and that counts are within."""
-    return tuple([max(sort[1], many) for sort, many in zip(house, counts)])
 
 
 def two_table(house, counts):

@@ -1,7 +1,7 @@
 """What a formula comes down to: the sorts that matter, its told form, its turned form."""
 
-from countsfall.counts import all_counts, check_many
-from countsfall.errors import IsNothing, NotFirm
+from countsfall.counts import all_counts, firm_sizes
+from countsfall.errors import IsNothing
 from countsfall.houses import names_of
 from countsfall.levels import caps_of, depth_of
 from countsfall.ways import holds, least_of, ways_formula, ways_of
@@ -36,11 +36,7 @@ def turned_table(table):
 
 def turned_formula(house, formula):
     """Return, in told form, the formula whose value in turned tables is 0 less the value of this one."""
-    for name, least, most in house:
-        if least != most:
-            raise NotFirm(name)
-    sizes = tuple([sort[1] for sort in house])
-    check_many(sizes)
+    sizes = firm_sizes(house)
     if not holds(house, formula, sizes):
         raise IsNothing()
     found = [counts for counts in all_counts(sizes) if not holds(house, formula, left_of(sizes, counts))]

@@ -15,6 +15,32 @@ def holds(house, formula, counts):
     return len([part for part in formulas if holds(house, part, counts)]) >= k
 
 
+def held_in(grid, formula):
+    """Return the set of those counts of a grid at which a formula holds."""
+    return grid.where([holds(grid.house, formula, counts) for counts in grid.counts])
+
+
+def helds_in(grid, formulas):
+    """Return the list that has for each formula the set of those counts of a grid at which it holds."""
+    return [held_in(grid, formula) for formula in formulas]
+
+
+def sets_by(grid, helds):
+    """Return the dict from each pattern, ascending, to the set of the counts of a grid that have it, if there are any.
+
+    A pattern tells of each of helds, sets of counts, whether counts are in it.
+    """
+    sets = {(): grid.full}
+    for held in helds:
+        finer = {}
+        for pattern in sets:
+            for truth, found in ((False, grid.without(sets[pattern], held)), (True, sets[pattern] & held)):
+                if found > 0:
+                    finer[pattern + (truth,)] = found
+        sets = finer
+    return sets
+
+
 def least_of(found):
     """Return those of an ascending list of counts that no other ones of it are within."""
     least = []

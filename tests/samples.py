@@ -14,6 +14,16 @@ ALL_OPEN = (("a", 0, None), ("b", 1, None))
 EMPTY = (("a", 0, 0),)
 HOUSES = (PAIR, MIXED, LOOSE, FIRM, HELD, OPEN, ALL_OPEN, EMPTY)
 
+A, B = ("rank", ("a",), 1), ("rank", ("b",), 1)
+BEST, WORST = ("rank", ("a", "b"), 1), ("rank", ("a", "b"), 2)
+TOP = ("kth", 2, (BEST, ("rank", ("b",), 2), A))
+FACTS = ((), ((A, B),), ((WORST, A), (B, TOP)))
+ANSWERS = (
+    (), (("is", BEST, 2),), (("is", A, None),), (("count", ("a", "b"), 2, 1),),
+    (("is", A, 2), ("is", B, 0)), (("is", TOP, 1), ("count", ("b",), 2, 0)), (("is", WORST, 1), ("is", BEST, 1)),
+    (("count", ("a",), 1, 1), ("count", ("a", "b"), 3, 0), ("is", B, None)), (("is", A, 1), ("is", A, 2)),
+    (("count", ("b",), 0, 2), ("count", ("b",), 0, 1)), (("is", ("rank", ("b",), 3), 0), ("count", ("a", "b"), 1, 3)))
+
 NO_FORMULAS = (None, True, 0, "rank", (), [], {}, ("rank",), ("rank", "a", 1), ("kth", 1, ()), Wrong(0))
 
 ODD_VALUES = (
@@ -96,3 +106,36 @@ def broken(thing):
     if thing is None:
         return [True, False, "None", "open", (), [], Wrong(0)]
     return [True, False, str(thing), (thing,), [thing], {}, Wrong(0)]
+
+
+def cases_of(house):
+    """Return cases of a house with the sorts a and b."""
+    return [(house, facts, answers) for facts in FACTS for answers in ANSWERS]
+
+
+def numbers_by(rungs):
+    """Return the ascending list of the rungs and one integer of each gap between them, below and above them."""
+    if not rungs:
+        return [0]
+    between = [low + 1 for low, high in zip(rungs, rungs[1:]) if high - low > 1]
+    return sorted([rungs[0] - 2] + rungs + between + [rungs[-1] + 3])
+
+
+def place_by(rungs, value):
+    """Return the place, by rungs, in which a value lies."""
+    if value is None:
+        return ("none",)
+    if value in rungs:
+        return ("rung", value)
+    return ("gap", max([rung for rung in rungs if rung < value], default=None),
+            min([rung for rung in rungs if rung > value], default=None))
+
+
+def plain_places(rungs):
+    """Return the list of all places by rungs, by the words of the document."""
+    places = [("none",)]
+    for low, high in zip([None] + rungs, rungs + [None]):
+        if low is None or high is None or high - low > 1:
+            places.append(("gap", low, high))
+        places.extend([("rung", high)] if high is not None else [])
+    return places

@@ -9,23 +9,11 @@ from countsfall.ladders import is_let, ladder_of
 from countsfall.levels import caps_of, depth_of, level_of, rungs_of
 from countsfall.tables import fits, sizes_of
 from countsfall.ways import holds
-from tests.samples import ALL_OPEN, FIRM, HELD, LOOSE, MIXED, OPEN, PAIR, counts_within, tables_with
+from tests.samples import ALL_OPEN, FIRM, HELD, LOOSE, MIXED, OPEN, PAIR, cases_of, counts_within, tables_with
 
 A, B = ("rank", ("a",), 1), ("rank", ("b",), 1)
-BEST, WORST = ("rank", ("a", "b"), 1), ("rank", ("a", "b"), 2)
-TOP = ("kth", 2, (BEST, ("rank", ("b",), 2), A))
-FACTS = ((), ((A, B),), ((WORST, A), (B, TOP)))
-ANSWERS = (
-    (), (("is", BEST, 2),), (("is", A, None),), (("count", ("a", "b"), 2, 1),),
-    (("is", A, 2), ("is", B, 0)), (("is", TOP, 1), ("count", ("b",), 2, 0)), (("is", WORST, 1), ("is", BEST, 1)),
-    (("count", ("a",), 1, 1), ("count", ("a", "b"), 3, 0), ("is", B, None)), (("is", A, 1), ("is", A, 2)),
-    (("count", ("b",), 0, 2), ("count", ("b",), 0, 1)), (("is", ("rank", ("b",), 3), 0), ("count", ("a", "b"), 1, 3)))
+BEST = ("rank", ("a", "b"), 1)
 TWO_SORTS = (PAIR, MIXED, LOOSE, FIRM, OPEN, ALL_OPEN)
-
-
-def cases_of(house):
-    """Return cases of a house with the sorts a and b."""
-    return [(house, facts, answers) for facts in FACTS for answers in ANSWERS]
 
 
 def plain_let(case, level, counts):

@@ -24,6 +24,8 @@ METHODS = set(
 WORDS = ("type typing typing_extensions enum Enum IntEnum StrEnum Flag IntFlag Generic Protocol ABC ABCMeta namedtuple "
          "NamedTuple TypedDict TYPE_CHECKING abstractmethod").split()
 BARRED = WORDS + "register mro elements open input law version_info with_traceback add_note".split()
+# A shell, and what runs examples as one does, keeps the last value under the name _.
+PYTHON_NAMES = set(dir(builtins)) - {"_"}
 NEVER = (ast.Global, ast.AsyncFunctionDef, ast.AsyncFor, ast.AsyncWith, ast.Await, ast.Div, ast.MatMult)
 
 
@@ -136,15 +138,18 @@ class NamesTest(unittest.TestCase):
             taken |= {row.name for row in tree.body if isinstance(row, ast.ClassDef)}
             for local in local_names(tree):
                 self.assertNotIn(local, taken, name)
-                self.assertNotIn(local, dir(builtins), name)
+                self.assertNotIn(local, PYTHON_NAMES, name)
             for bound in bound_names(tree):
-                self.assertNotIn(bound, dir(builtins), name)
+                self.assertNotIn(bound, PYTHON_NAMES, name)
 
     def test_builtins_and_methods(self):
+        own = {row.name for tree in trees().values() for node in ast.walk(tree) if isinstance(node, ast.ClassDef)
+               for row in node.body if isinstance(row, ast.FunctionDef)}
+        for taken in (str, int, list, dict, set, tuple, bytes):
+            self.assertFalse((own - {"__init__"}) & set(dir(taken)))
         for name, tree in trees().items():
-            own = {node.name for node in ast.walk(tree) if isinstance(node, ast.FunctionDef)}
             for node in ast.walk(tree):
-                if isinstance(node, ast.Name) and node.id in dir(builtins):
+                if isinstance(node, ast.Name) and node.id in PYTHON_NAMES:
                     self.assertIn(node.id, BUILTINS, name)
                 if isinstance(node, ast.Call) and isinstance(node.func, ast.Attribute):
                     self.assertIn(node.func.attr, METHODS | own, name)
