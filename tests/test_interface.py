@@ -27,6 +27,22 @@ MODULES = {
               "can_be_nothing(house,formula) can_be_something(house,formula) turned_table(table)",
     "levels": "rungs_of(answers) level_of(rungs,number) depth_of(formulas,answers) caps_of(house,depth)",
     "ladders": "is_let(case,level,counts) ladder_of(case)",
+    "walks": "starts_of(case) come_to(case) a_table(case) cut_of(case) is_cut(case,thing)",
+    "numbered": "many_fits(case,low,high)",
+    "sure": "places_of(case,formula) told(case,formula) table_with(case,formula,value)",
+    "joint": "joint_places(case,one,other) is_kept(case,fact) breaking_table(case,fact)",
+    "follow": "follows(case,answer) needless_answers(case) least_answers(case,formula)",
+    "always": "pair_table(house,pair) tells_always(house,asks,formula) are_always_pairs(house,asks,formula,thing) "
+              "always_pairs(house,asks,formula)",
+    "readings": "reading(house,asks,formula) read_by(reading,values)",
+    "lots": "least_lots(house,asks,formula) needed_asks(house,asks,formula) same_always(house,one,other)",
+    "closed": "all_told(house,asks) bounds_told(house,asks,formula)",
+    "divisions": "division_of(house,asks) refined(house,one,other) joined_up(house,division,couples) "
+                 "is_division(house,thing) is_ring(house,division,thing) ring_of(house,division) asks_of(house,division)",
+    "patterns": "pattern_of(house,asks,counts) row_of(house,asks,table) rows_of(house,asks) table_by(house,asks,row)",
+    "sometimes": "is_told_in(house,asks,formula,table) apart_in(house,asks,formula,table) "
+                 "tells_sometimes(house,asks,formula) told_rows(house,asks,formula)",
+    "silent": "silent_lots(house,asks,secret) loud_lots(house,asks,secret)",
 }
 
 HOUSE = (("a", 1, 2), ("b", 0, 1))
@@ -41,13 +57,29 @@ VALUES = {
     "name": "b", "lot": ("a", "b"), "number": 3, "facts": CASE[1], "answer": ANSWERS[1], "labels": {4: 9, 2: 1, 3: 5},
     "text": "", "fall": ((2, (2, 1)), (4, (1, 1))), "numbers": (0, 5), "low": 0, "high": 3, "counts": (1, 1),
     "ways": ((0, 1), (2, 0)), "formulas": (FORMULA, FORMULA[2][0]), "rungs": [2, 3, 4], "depth": 2, "level": 1,
-    "thing": {"a": [(1,)], "b": {}}, "one": FORMULA, "other": FORMULA[2][0],
+    "thing": {"a": [(1,)], "b": {}}, "one": FORMULA, "other": FORMULA[2][0], "value": 4, "fact": CASE[1][0][::-1],
+    "asks": FORMULA[2], "secret": ("rank", ("a",), 1), "pair": ((2, 1), (1, 1)),
+    "row": ((True, True), (True, False), (False, False)),
+    "reading": {((True,), (True,)): True, ((True,), (False,)): False}, "values": (7,),
 }
+FIRM = (("a", 1, 1), ("b", 1, 1))
+DIVISION = (((0, 0), (1, 1)), ((0, 1),), ((1, 0),))
+LONGER = (HOUSE, (), (("is", ("rank", ("b",), 1), 4),))
 SPECIAL = {
     "is_coarser": (HOUSE, KIND[:1], KIND), "read_house": ("sort a 1 1",), "read_table": (HOUSE, "rows b 4\nrows a 2 4"),
     "read_formula": (HOUSE, "( rank 1 a )"), "read_case": ("sort a 1 1",), "kinds_many": ((("a", 0, 2),),),
-    "turned_formula": ((("a", 2, 2), ("b", 1, 1)), FORMULA),
+    "turned_formula": ((("a", 2, 2), ("b", 1, 1)), FORMULA), "told": (LONGER, ("rank", ("a",), 1)),
+    "apart_in": (HOUSE, (FORMULA,), ("rank", ("b",), 1), TABLE),
+    "cut_of": ((HOUSE, (), (("is", ("rank", ("a",), 2), 5), ("is", ("rank", ("a",), 1), 4))),),
+    "is_cut": ((HOUSE, (), (("is", ("rank", ("a",), 1), None),)), [[]]), "many_fits": (LONGER, 2, 5),
+    "always_pairs": (HOUSE, (FORMULA,), ("rank", ("b",), 1)), "same_always": (HOUSE, (FORMULA,), FORMULA[2]),
+    "all_told": (FIRM, (("rank", ("a", "b"), 1),)), "bounds_told": (FIRM, (("rank", ("a", "b"), 1),), ("rank", ("a",), 1)),
+    "division_of": (FIRM, FORMULA[2]), "refined": (FIRM, DIVISION, DIVISION), "is_division": (FIRM, DIVISION),
+    "joined_up": (FIRM, (((0, 0),), ((0, 1),), ((1, 0),), ((1, 1),)), [((0, 0), (0, 1))]), "ring_of": (FIRM, DIVISION),
+    "is_ring": (FIRM, DIVISION, DIVISION[:2]), "asks_of": (FIRM, (((0, 0),), ((0, 1), (1, 0), (1, 1)))),
 }
+# What tells whether something is so, but for names that begin as most of these do.
+TRUTHS = ("holds", "holds_by", "keeps", "fits", "follows", "tells_always", "same_always")
 
 
 def functions():
@@ -83,6 +115,13 @@ def spoil(thing):
         thing.append("spoilt")
     if isinstance(thing, dict):
         thing["spoilt"] = ()
+
+
+def containers_of(thing):
+    """Return all lists and dicts in a value."""
+    parts = list(thing.values()) if isinstance(thing, dict) else thing if isinstance(thing, (list, tuple)) else []
+    found = [thing] if isinstance(thing, (list, dict)) else []
+    return found + [container for part in parts for container in containers_of(part)]
 
 
 class InterfaceTest(unittest.TestCase):
@@ -124,11 +163,15 @@ class CallsTest(unittest.TestCase):
             spoil(arguments)
             self.assertEqual(ordered(found), expected, function.__name__)
 
+    def test_no_list_or_dict_stands_twice_in_a_result(self):
+        for _, function, parameters in functions():
+            containers = containers_of(function(*arguments_of(function, parameters)))
+            self.assertEqual(len({id(container) for container in containers}), len(containers), function.__name__)
+
     def test_truths_and_keys(self):
-        truths = ("is_", "are_", "can_", "holds", "keeps", "fits")
         for _, function, parameters in functions():
             found = function(*arguments_of(function, parameters))
-            if function.__name__.startswith(truths):
+            if function.__name__ in TRUTHS or function.__name__.startswith(("is_", "are_", "can_")):
                 self.assertIsInstance(found, bool, function.__name__)
             if isinstance(found, dict):
                 self.assertEqual(list(found), sorted(found), function.__name__)
