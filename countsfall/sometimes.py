@@ -2,7 +2,7 @@
 
 from countsfall.always import asks_grid
 from countsfall.patterns import rows_by, table_by
-from countsfall.sure import is_sure, table_with, told
+from countsfall.sure import is_sure, table_with, told, values_in
 from countsfall.tables import value_of
 from countsfall.walks import Walk
 from countsfall.ways import held_in, helds_in, sets_by
@@ -25,33 +25,21 @@ def apart_in(house, asks, formula, table):
     if kind == "sure":
         return None
     own = value_of(house, table, formula)
-    others = [value for place in found for value in some_values(place) if value != own]
+    others = [value for place in found for value in values_in(place) if value != own]
     return table_with(case, formula, others[0])
 
 
-def some_values(place):
-    """Return the list of one value in a place, of two for a gap without bounds."""
-    if place[0] != "gap":
-        return [None if place[0] == "none" else place[1]]
-    _, low, high = place
-    if low is None and high is None:
-        return [0, 1]
-    return [high - 1 if low is None else low + 1]
-
-
-def sure_rows(grid, helds, held):
-    """Return the ascending list of the rows of patterns in whose tables a formula is told.
-
-    The asks hold at the counts in helds, a set for each, the formula at those in held.
-    """
-    sets = sets_by(grid, helds)
-    return [row for row in rows_by(grid, sets) if is_sure(Walk(grid, [sets[pattern] for pattern in row]), held)]
+def row_walk(grid, sets, row):
+    """Return the walk through the sets of counts with the patterns of a row."""
+    return Walk(grid, [sets[pattern] for pattern in row])
 
 
 def told_rows(house, asks, formula):
     """Return the ascending list of the rows of patterns in whose tables asks tell a formula."""
     grid = asks_grid(house, asks, formula)
-    return sure_rows(grid, helds_in(grid, asks), held_in(grid, formula))
+    sets = sets_by(grid, helds_in(grid, asks))
+    held = held_in(grid, formula)
+    return [row for row in rows_by(grid, sets) if is_sure(row_walk(grid, sets, row), held)]
 
 
 def tells_sometimes(house, asks, formula):

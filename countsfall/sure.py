@@ -65,7 +65,39 @@ def told(case, formula):
 
 def is_sure(walk, held):
     """Return whether a formula that holds at the counts in held has the same value in all tables of a walk."""
-    return all([found & held in (0, found) for found in walk.occurring])
+    return are_sure(walk.occurring, held)
+
+
+def are_sure(levels, held):
+    """Return whether at each level, a set of counts, all are in held, or none."""
+    return all([found & held in (0, found) for found in levels])
+
+
+def levels_behind(grid, levels, held, step):
+    """Return the list of the levels behind an answer to an ask that holds at the counts in held.
+
+    Its value lies in the place with the index step. That of a gap parts the level in which it lies.
+    """
+    up_to = [found & held for found in levels[:(step + 1) // 2]]
+    return up_to + [grid.without(found, held) for found in levels[step // 2:]]
+
+
+def values_in(place):
+    """Return the list of two values in a place, of one if it has no other one."""
+    if place[0] != "gap":
+        return [None if place[0] == "none" else place[1]]
+    _, low, high = place
+    if low is None:
+        return [0, 1] if high is None else [high - 1, high - 2]
+    return [number for number in (low + 1, low + 2) if high is None or number < high]
+
+
+def is_in(place, value):
+    """Return whether a value lies in a place."""
+    if place[0] != "gap" or value is None:
+        return value in values_in(place)
+    _, low, high = place
+    return (low is None or low < value) and (high is None or value < high)
 
 
 def table_with(case, formula, value):

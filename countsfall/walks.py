@@ -113,14 +113,21 @@ def cut_of(case):
     return [walk.grid.listed(found) for found in walk.reached]
 
 
-def are_counts_within(grid, thing):
-    """Return whether thing is a list of different counts of a grid."""
+def are_listed(grid, thing):
+    """Return whether thing is a list of counts of a grid, perhaps with some more than once."""
     if not isinstance(thing, list):
         return False
-    for counts in thing:
-        if not is_counts(grid.house, counts) or not within(counts, grid.limits):
+    return all([is_counts(grid.house, counts) and within(counts, grid.limits) for counts in thing])
+
+
+def has_all_from_starts(grid, levels, found):
+    """Return whether found, a list of a set for each level, has all that is come to from the starts and from it."""
+    ahead = grid.starts & levels[0]
+    for level, part in zip(levels, found):
+        if grid.without(grid.below(ahead) & level, part) > 0:
             return False
-    return len(set(thing)) == len(thing)
+        ahead = part
+    return True
 
 
 def is_cut(case, thing):
@@ -130,12 +137,6 @@ def is_cut(case, thing):
     levels = ladder_sets(grid, case, rungs_of(answers))
     if not isinstance(thing, list) or len(thing) != len(levels):
         return False
-    ahead = grid.starts & levels[0]
-    for level, told in zip(levels, thing):
-        if not are_counts_within(grid, told):
-            return False
-        found = grid.set_of_all(told)
-        if grid.without(grid.below(ahead) & level, found) > 0:
-            return False
-        ahead = found
-    return ahead == 0
+    if not all([are_listed(grid, part) and len(set(part)) == len(part) for part in thing]):
+        return False
+    return thing[-1] == [] and has_all_from_starts(grid, levels, [grid.set_of_all(part) for part in thing])

@@ -2,7 +2,10 @@
 
 import itertools
 
+from countsfall.book import Book
+from countsfall.desk import Desk
 from countsfall.errors import CountError, NoTable, Nothing, Wrong
+from countsfall.tables import fits, value_of
 
 PAIR = (("a", 1, 1), ("b", 1, 1))
 MIXED = (("a", 1, 1), ("b", 0, 2))
@@ -36,6 +39,9 @@ ODD_VALUES = (
     {(1, 2): [{}], True: "a"}, {"a": {}, 1: [], ("a",): ()}, Wrong(0), Wrong([]), Nothing(), NoTable({}), CountError(),
     Wrong, CountError, int, len, ((((((((((((((((((((),),),),),),),),),),),),),),),),),),),),
     ((5, (1, 1)),), ((1, 1), (0, 1)), [(1, 1)], (((1, 1),),), ("fact", 1, 2), (1,) * 2999, ["a"] * 2999,
+    # Objects of the package, which can be compared, but are no keys of a dict.
+    Book(PAIR), (Book(PAIR),), [Book(PAIR), Book(PAIR)], (Book(PAIR), ("a",), 1), ("rank", (Book(PAIR),), 1),
+    ("rank", Book(PAIR), 1), {"a": Book(PAIR)}, {"a": (Book(PAIR),)}, (("a", Book(PAIR), None),), Desk,
 )
 
 
@@ -139,3 +145,25 @@ def plain_places(rungs):
             places.append(("gap", low, high))
         places.extend([("rung", high)] if high is not None else [])
     return places
+
+
+def far_numbers(case):
+    """Return integers among which are all rungs of a case, three of each gap or all of it, and some beyond."""
+    rungs = sorted({rung for answer in case[2] for rung in (
+        (answer[2] - 1, answer[2]) if answer[0] == "count" else () if answer[2] is None else (answer[2],))})
+    low, high = (rungs[0], rungs[-1]) if rungs else (0, 0)
+    near = [number for rung in rungs for number in range(rung - 3, rung + 4)]
+    return sorted(set(near + list(range(low - 3, low)) + list(range(high, high + 4))))
+
+
+def fitting_tables(case, beyond=2):
+    """Return all tables that fit a case and have no other numbers than far_numbers."""
+    return [table for table in tables_with(case[0], far_numbers(case), beyond) if fits(case, table)]
+
+
+def values_by(tables, house, ask, formula):
+    """Return the dict from each value of an ask to the set of the values of a formula beside it."""
+    found = {}
+    for table in tables:
+        found.setdefault(value_of(house, table, ask), set()).add(value_of(house, table, formula))
+    return found

@@ -4,7 +4,10 @@ import ast
 import copy
 import importlib
 import inspect
+import pathlib
 import unittest
+
+from countsfall import errors
 
 MODULES = {
     "forms": "is_integer(thing) is_name(thing) is_house(thing) is_table(house,thing) is_lot(house,thing) "
@@ -43,6 +46,29 @@ MODULES = {
     "sometimes": "is_told_in(house,asks,formula,table) apart_in(house,asks,formula,table) "
                  "tells_sometimes(house,asks,formula) told_rows(house,asks,formula)",
     "silent": "silent_lots(house,asks,secret) loud_lots(house,asks,secret)",
+    "best": "lot_asks(lots) shadows_of(lots,name) safe_cells(house,lots) is_union(lots,lot) best_sometimes(lots,lot)",
+    "stays": "there_on(stays,day) told_days(stays,days,name) safe_names(stays,days) twins(stays,days) "
+             "days_for_all(stays,days)",
+    "further": "branches(case,ask) settling(case,ask,formula) behind(case,ask,value) next_asks(case,asks,formula)",
+    "trees": "least_tree(house,asks,formula,most) fewest_asks(house,asks,formula,most) is_tree(house,asks,thing) "
+             "is_finding(house,asks,formula,thing) tree_depth(tree) walk_tree(house,asks,tree,table) "
+             "told_by_way(house,asks,formula,way)",
+    "clerks": "blind_replies(case,asks,secret,table) seeing_replies(case,asks,secret,table) allowed(case,asks,secret)",
+    "refusals": "refused_at(case,ask,secret) refusal_tells(case,ask,secret) is_refused(case,ask,secret,table)",
+    "roles": "breaches(house,asks,roles,secret) serving(house,asks,roles,formula) "
+             "least_rights(house,asks,needs,secrets) greatest_rights(house,asks,secrets) "
+             "is_right(house,asks,needs,secrets,thing)",
+    "deeds": "is_deed(house,thing) is_script(house,thing) freed(house) done(house,table,script)",
+    "acts": "marks_of(script) counts_behind(house,script,number,counts)",
+    "scripts": "same_acts(house,one,other) parted_table(house,one,other)",
+    "past": "formula_before(house,script,formula) lost_tables(house,script,formula) case_before(house,facts,steps)",
+    "extracts": "occurring(case) extract_of(case,formula) shows(case,formula,value,thing)",
+}
+CLASSES = {
+    "book.Book": "__init__(self,house) __eq__(self,other) put(self,index,row) take(self,index) case(self) "
+                 "told(self,formula) rows(self) places(self,formula) table(self) since(self,formula) back(self) again(self) "
+                 "twin(self)",
+    "desk.Desk": "__init__(self,text) execute(self,line) book(self)",
 }
 
 HOUSE = (("a", 1, 2), ("b", 0, 1))
@@ -61,6 +87,10 @@ VALUES = {
     "asks": FORMULA[2], "secret": ("rank", ("a",), 1), "pair": ((2, 1), (1, 1)),
     "row": ((True, True), (True, False), (False, False)),
     "reading": {((True,), (True,)): True, ((True,), (False,)): False}, "values": (7,),
+    "lots": (("a", "b"), ("b",)), "stays": {"b": (4, 5), "a": (1, 4)}, "days": (1, 4), "day": 4,
+    "ask": ("rank", ("a",), 1), "most": 2, "tree": ("ask", 1, ((-1, ("leaf",)), (0, ("leaf",)))),
+    "way": [(1, 4)], "roles": {"y": (0, 1), "x": ()}, "needs": (FORMULA[2][0],), "secrets": (("rank", ("a",), 1),),
+    "script": (("move", "a", 2, "b"), ("keep", "b", 1)), "steps": (("is", FORMULA, 4), ("go", "a", 1), ("is", FORMULA[2][1], 3)),
 }
 FIRM = (("a", 1, 1), ("b", 1, 1))
 DIVISION = (((0, 0), (1, 1)), ((0, 1),), ((1, 0),))
@@ -77,13 +107,20 @@ SPECIAL = {
     "division_of": (FIRM, FORMULA[2]), "refined": (FIRM, DIVISION, DIVISION), "is_division": (FIRM, DIVISION),
     "joined_up": (FIRM, (((0, 0),), ((0, 1),), ((1, 0),), ((1, 1),)), [((0, 0), (0, 1))]), "ring_of": (FIRM, DIVISION),
     "is_ring": (FIRM, DIVISION, DIVISION[:2]), "asks_of": (FIRM, (((0, 0),), ((0, 1), (1, 0), (1, 1)))),
+    "safe_cells": (FIRM, (("a", "b"), ("b",))), "settling": (LONGER, ("rank", ("a",), 1), ("rank", ("a",), 1)),
+    "behind": (LONGER, ("rank", ("a",), 1), 7), "refusal_tells": (LONGER, ("rank", ("a",), 1), ("rank", ("a",), 1)),
+    "refused_at": (LONGER, ("rank", ("a",), 1), ("rank", ("a",), 1)),
+    "least_tree": (FIRM, (("rank", ("a",), 1), ("rank", ("b",), 1)), ("rank", ("a", "b"), 1), 3),
+    "same_acts": (HOUSE, (("go", "a", 1),), (("go", "a", 2),)), "parted_table": (HOUSE, (("go", "a", 1),), (("go", "a", 2),)),
+    "extract_of": (LONGER, ("rank", ("b",), 1)),
+    "shows": (LONGER, ("rank", ("b",), 1), 4, ([[(0, 1), (1, 1)], [(0, 0), (1, 0)]], [[(1, 1)], [(0, 0)]])),
 }
 # What tells whether something is so, but for names that begin as most of these do.
-TRUTHS = ("holds", "holds_by", "keeps", "fits", "follows", "tells_always", "same_always")
+TRUTHS = ("holds", "holds_by", "keeps", "fits", "follows", "tells_always", "same_always", "best_sometimes", "same_acts", "shows")
 
 
 def functions():
-    """Return (module, function, its parameters) for the whole interface so far."""
+    """Return (module, function, its parameters) for all functions of the interface."""
     found = []
     for name, listed in MODULES.items():
         module = importlib.import_module("countsfall." + name)
@@ -137,6 +174,22 @@ class InterfaceTest(unittest.TestCase):
                 rows = ast.parse(source.read()).body
             defined = [row.name for row in rows if isinstance(row, ast.FunctionDef)]
             self.assertEqual(defined.count(function.__name__), 1, function.__name__)
+
+
+    def test_classes_and_their_own_methods(self):
+        for name, listed in CLASSES.items():
+            module, _, told = name.partition(".")
+            made = getattr(importlib.import_module("countsfall." + module), told)
+            self.assertEqual([made.__module__, made.__bases__], ["countsfall." + module, (object,)])
+            for entry in listed.split():
+                method, _, parameters = entry[:-1].partition("(")
+                self.assertEqual(",".join(inspect.signature(vars(made)[method]).parameters), parameters, method)
+
+    def test_all_that_the_document_lists_is_here(self):
+        self.assertEqual(sum(len(listed.split()) for listed in MODULES.values()), 160)
+        files = {path.stem for path in pathlib.Path(errors.__file__).parent.glob("*.py")}
+        # Beside the files of the interface there is one with what they share.
+        self.assertEqual(files - {"__init__", "counts"}, set(MODULES) | {"errors", "book", "desk"})
 
 
 class CallsTest(unittest.TestCase):

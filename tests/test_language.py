@@ -146,7 +146,7 @@ class NamesTest(unittest.TestCase):
         own = {row.name for tree in trees().values() for node in ast.walk(tree) if isinstance(node, ast.ClassDef)
                for row in node.body if isinstance(row, ast.FunctionDef)}
         for taken in (str, int, list, dict, set, tuple, bytes):
-            self.assertFalse((own - {"__init__"}) & set(dir(taken)))
+            self.assertFalse((own - {"__init__", "__eq__"}) & set(dir(taken)))
         for name, tree in trees().items():
             for node in ast.walk(tree):
                 if isinstance(node, ast.Name) and node.id in PYTHON_NAMES:
@@ -165,7 +165,7 @@ class SyntaxTest(unittest.TestCase):
                 self.assertTrue(plain or docstring, (name, row.lineno))
             for node in ast.walk(tree):
                 self.assertNotIsInstance(node, NEVER, name)
-                # A class that can be compared is to come; any, all and sorted must take lists then.
+                # A class can be compared, so any, all and sorted take lists.
                 self.assertNotIsInstance(node, ast.GeneratorExp, (name, getattr(node, "lineno", 0)))
                 if isinstance(node, ast.BinOp) and isinstance(node.op, ast.Pow):
                     self.assertIsInstance(node.right, ast.Constant, name)
