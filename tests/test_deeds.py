@@ -56,6 +56,8 @@ class IsDeedTest(unittest.TestCase):
             self.assertIs(is_deed(PAIR, deed[:-1]), False)
             self.assertIs(is_deed(PAIR, deed + ("a",)), False)
             self.assertIs(is_deed(PAIR, deed + (1,)), False)
+            self.assertIs(is_deed(PAIR, deed + (1, 1)), False)
+            self.assertIs(is_deed(PAIR, deed[:3] + ("b", "b")), False)
             self.assertIs(is_deed(PAIR, list(deed)), False)
 
     def test_any_value(self):

@@ -175,7 +175,6 @@ class InterfaceTest(unittest.TestCase):
             defined = [row.name for row in rows if isinstance(row, ast.FunctionDef)]
             self.assertEqual(defined.count(function.__name__), 1, function.__name__)
 
-
     def test_classes_and_their_own_methods(self):
         for name, listed in CLASSES.items():
             module, _, told = name.partition(".")

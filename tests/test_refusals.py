@@ -72,6 +72,14 @@ class RefusedAtTest(unittest.TestCase):
         self.assertEqual(refused_at(case, A, B), [(("rung", -BIG), -BIG, BIG), (("gap", -BIG, BIG), -BIG + 1, BIG)])
 
 
+    def test_gaps_between_many_rungs(self):
+        house = (("a", 1, 1), ("b", 1, 1), ("c", 1, 1))
+        case = (house, (), (("is", ("rank", ("b",), 1), 100), ("is", ("rank", ("c",), 1), -7)))
+        self.assertEqual(refused_at(case, A, ("rank", ("a", "b", "c"), 2)), [
+            (("gap", None, -7), -8, -7), (("rung", -7), -7, -7), (("gap", -7, 100), -6, -6), (("rung", 100), 100, 100),
+            (("gap", 100, None), 101, 100)])
+
+
 class TellsTest(unittest.TestCase):
 
     def refused_tables(self, case, tables, ask, secret):

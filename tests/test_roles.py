@@ -147,7 +147,7 @@ class RightsTest(unittest.TestCase):
         self.assertEqual(rights, [(0,)])
         for thing in ODD_VALUES + ((1, 0), (0, 0), (0, 3), (-1, 0), (0, 1, 1), (0, None), (0, "1"), ((0,),), [0], (-1,), (3,)):
             self.assertIs(is_right(PAIR, asks, (BEST,), (A,), thing), repr(thing) == "(0,)", thing)
-        for thing in ((False,), (0, True), (False, True), (10 ** 39,)):
+        for thing in ((False,), (0, True), (False, True), (10 ** 39,), (-1,), (-1, 0), (3,), (0, 3)):
             self.assertIs(is_right(PAIR, asks, (), (), thing), False)
         self.assertEqual([is_right(PAIR, asks, (), (), thing) for thing in ((), (0, 1), (0, 1, 2), (2, 1))],
                          [True, True, True, False])

@@ -179,6 +179,13 @@ class TooManyTest(unittest.TestCase):
                 firm = tuple((name, reach, reach) for name in "abcde"[:many])
                 self.check((reach + 1) ** many > 20000, firm, other, one)
 
+    def test_the_reach_without_any_rank(self):
+        wide = tuple((name, 0, None) for name in "abcde")
+        # The reach is 6 or 7 here, with 7 ** 5 or 8 ** 5 counts.
+        for deed in (("merge", "a", "b"), ("come", "c", -BIG)):
+            self.check(False, wide, (deed,) * 5, ())
+            self.check(True, wide, (), (deed,) * 6)
+
     def test_it_comes_first(self):
         wide = tuple((name, 0, None) for name in "abcde")
         same = (("keep", "a", 9),)

@@ -274,6 +274,13 @@ class IsTreeTest(unittest.TestCase):
             self.assertIs(is_tree(PAIR, (BEST, WORST), thing), False)
             self.assertIs(is_finding(PAIR, (BEST, WORST), NEVER, thing), False)
 
+    def test_parts_that_are_too_many_or_too_few(self):
+        self.assertIs(is_tree(PAIR, (A, B), ("ask", 1, ((0, LEAF),))), True)
+        for thing in (("ask", 2, ((0, LEAF),)), ("ask", -1, ((0, LEAF),)), ("ask", 1, ((0, LEAF, LEAF),)), ("ask", 1, ((0,),)),
+                      ("ask", 1, ((),)), ("ask", 1, (0, LEAF)), ("ask", 1, ((0, LEAF), (0, LEAF)))):
+            self.assertIs(is_tree(PAIR, (A, B), thing), False, thing)
+            self.assertIs(is_finding(PAIR, (A, B), B, thing), False, thing)
+
     def test_truths_in_the_place_of_integers(self):
         tree = ("ask", 0, ((0, ("ask", 1, ((0, LEAF), (1, LEAF), (2, LEAF)))),))
         self.assertIs(is_tree(PAIR, (A, B), tree), True)
